@@ -1,0 +1,1 @@
+"""Holdhouse: calls on hold in a house with few lines."""

@@ -1,4 +1,4 @@
-"""What the numbers, the words and the rows of a house are like."""
+"""What the numbers, the words, the rows and the pictures of a house are like."""
 
 from holdhouse.limits import MOST_CONDITIONS, MOST_DEEDS
 
@@ -11,6 +11,7 @@ HEARD_WORDS = ("voice", "stranger", "both", "over", "gone")
 PLAIN_OCCASIONS = ("call", "gone", "late", "lay")
 KEY_OPENING = "key "
 LINE_CONDITIONS = ("caller", "joined", "a", "b", "ear a", "ear b")
+PICTURE_CONDITIONS = ("voice", "stranger")
 PHONE_CONDITIONS = ("me a", "me b", "busy")
 STAND_CONDITION_OPENING = "in "
 LINE_DEEDS = ("a none", "a some", "b none", "b some", "swap", "deaf", "part")
@@ -19,9 +20,14 @@ KEY_DEEDS = ("hear", "join")
 STAND_DEED_OPENING = "stand "
 
 
+def is_integer(thing):
+    """Whether it is an integer; True and False are none."""
+    return isinstance(thing, int) and not isinstance(thing, bool)
+
+
 def is_between(thing, least, most):
-    """Whether it is an integer from the least to the most; True and False are none."""
-    return isinstance(thing, int) and not isinstance(thing, bool) and least <= thing <= most
+    """Whether it is an integer from the least to the most."""
+    return is_integer(thing) and least <= thing <= most
 
 
 def is_word(thing):
@@ -95,10 +101,36 @@ def is_occasion(text, keys):
 
 def is_condition(text, occasion, words):
     """Whether a row with this occasion may have this condition; `words` are those of the stands."""
-    plain = text[len("not "):] if text.startswith("not ") else text
+    plain, wanted = condition_parts(text)
     if plain in PHONE_CONDITIONS:
         return has_phone(occasion)
+    return is_line_condition(plain, words)
+
+
+def condition_parts(text):
+    """The condition without `not`, and whether it must hold."""
+    if text.startswith("not "):
+        return text[len("not "):], False
+    return text, True
+
+
+def is_line_condition(plain, words):
+    """Whether a condition without `not` is about the line alone; `words` are those of the stands."""
     return plain in LINE_CONDITIONS or names_one(plain, STAND_CONDITION_OPENING, words)
+
+
+def is_picture(thing, words):
+    """Whether it is a picture of a house; `words` are those of its stands."""
+    if not isinstance(thing, str):
+        return False
+    conditions = thing.split(" and ")
+    return len(conditions) <= MOST_CONDITIONS and all([is_picture_condition(text, words) for text in conditions])
+
+
+def is_picture_condition(text, words):
+    """Whether a picture may have this condition; `words` are those of the stands."""
+    plain, wanted = condition_parts(text)
+    return plain in PICTURE_CONDITIONS or is_line_condition(plain, words)
 
 
 def is_deed(text, occasion, words):

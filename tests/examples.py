@@ -28,6 +28,30 @@ key take if in held: a me, hear, stand talk
 lay if in talk and not joined: stand free
 gone: stand free"""
 
+LOST_TEXT = """\
+lines 1, keys hold take
+stand free quiet
+stand ring tone
+stand talk quiet
+stand held music
+call: a some, stand ring
+key take if in ring and me a: hear, stand talk
+key hold if in talk and me a: deaf, a none, stand held
+key take if in held and me a: hear, stand talk
+lay if in talk and not joined: stand free
+gone: stand free"""
+
+JOINING_TEXT = """\
+lines 2, keys take join
+stand free quiet
+stand ring tone
+stand talk quiet
+call: a some, stand ring
+key take if in ring and me a: hear, stand talk
+key join if busy: join
+lay if in talk and not joined: stand free
+gone: stand free"""
+
 TWO_STANDS = (("free", "quiet"), ("talk", "tone"))
 
 # Words that rows are made of; all but and, if, not may be the names of stands and keys.
@@ -40,6 +64,77 @@ HEARD_WORDS = ("voice", "stranger", "both", "over", "gone")
 # Neither integers nor strings nor tuples, and such as look like one.
 OTHER_THINGS = (None, True, False, b"a", b"", [], ["a"], {}, {"a": 1}, {"a"}, object(), int, len, ValueError("a"),
                 range(2))
+
+
+# Far too many shapes come with any number of phones.
+MANY_SHAPES_TEXT = """\
+lines 3, keys hold take join
+stand free quiet
+stand ring tone
+stand talk quiet
+stand held music
+call: a some, stand ring
+key hold: a me, stand held
+key take: b me, hear, stand talk
+key join: hear, join
+late: a none, stand ring
+gone: deaf"""
+
+# With 1, 2, .., 6 phones come 385, 1789, 2821, 3001, 3001 and 3001 shapes.
+ONE_SHAPE_TOO_MANY_TEXT = """\
+lines 2, keys hold take
+stand free tone
+stand ring tone
+stand talk music
+stand held quiet
+stand park tone
+call: stand talk
+key take: a me
+key take: b some, join, hear
+late: deaf, stand held, a none
+key hold: swap, stand ring, b me, hear
+key hold: join
+lay: b me, stand talk
+key take if in park and me b: b me, a none, hear, join
+gone if joined and not caller: stand free, stand talk
+lay if not me a: stand held, stand park, a some"""
+
+# With 1, 2, .., 8 phones come 801, 2430, 3001, 2978, 2975, 2976, 2976 and 2976 shapes.
+TOO_MANY_WITH_THREE_TEXT = """\
+lines 3, keys hold take join
+stand free tone
+stand ring quiet
+stand talk tone
+stand held tone
+stand park music
+stand wait tone
+call: b some, stand talk
+key hold if not in wait and in ring: stand free, stand held, b me
+key join if in talk: stand wait
+key take if me b: a me, join
+gone: stand ring
+key join if in free and joined: b me, part, stand park, stand free
+key hold if not in park and in talk: stand talk
+key take if in held and busy: stand ring, hear, a some, a me
+gone if b: stand wait, a some, a none, stand ring
+lay: stand talk, stand ring, stand wait"""
+
+# With 1, 2, .., 8 phones come 717, 1875, 2975, 2998, 2293, 1541, 1046 and 896 shapes.
+JUST_FEW_ENOUGH_TEXT = """\
+lines 3, keys hold take
+stand free quiet
+stand ring tone
+stand talk music
+stand held tone
+call: b some, stand held
+key take: b some, stand talk, hear
+key hold: stand free, stand talk, join, join
+call if not ear a and in held: a none
+key take: stand free, stand talk, stand talk
+gone if not in talk: a some, stand ring, swap
+lay if joined and caller: b none, b me, a me, stand held
+key take if caller and in held: a none, hear, stand talk
+late if ear b: stand talk"""
 
 
 def row_pattern(stands, keys):

@@ -1,0 +1,129 @@
+"""Standings: how all lines and phones of a house stand at a moment.
+
+A standing is a pair (lines, ears). `lines` has for each line a tuple (stand, caller, a, b, mate), `ears` has for
+each phone the line that it hears, or None. So a shape is a standing too, that of its numbered phones.
+"""
+
+STAND = 0
+CALLER = 1
+PLACE_A = 2
+PLACE_B = 3
+MATE = 4
+
+
+def beginning(free_stand, lines, phones):
+    """The standing in the beginning of a house with so many lines and phones."""
+    return ((free_stand, False, None, None, None),) * lines, (None,) * phones
+
+
+def with_loose(shape, phones):
+    """The standing with this shape in which the numbered phones come first, and loose ones behind them."""
+    lines, ears = shape
+    return lines, ears + (None,) * (phones - len(ears))
+
+
+def placed_phones(lines):
+    """The phones that are at places, as they come first."""
+    placed = []
+    for stand, caller, a, b, mate in lines:
+        if a is not None and a not in placed:
+            placed.append(a)
+        if b is not None and b not in placed:
+            placed.append(b)
+    return placed
+
+
+def loose_phones(lines, ears):
+    """The phones that are at no place, ascending."""
+    placed = placed_phones(lines)
+    return [phone for phone in range(len(ears)) if phone not in placed]
+
+
+def shape_of(standing):
+    """The shape of a standing."""
+    lines, ears = standing
+    placed = placed_phones(lines)
+    numbered = [(stand, caller, number_of(a, placed), number_of(b, placed), mate)
+                for stand, caller, a, b, mate in lines]
+    return tuple(numbered), tuple([ears[phone] for phone in placed])
+
+
+def number_of(phone, placed):
+    """The number of what is at a place, if these phones are at places."""
+    return None if phone is None else placed.index(phone)
+
+
+def line_facts(lines, ears, at):
+    """A dict of the conditions on this line that hold; all its values are True."""
+    stand, caller, a, b, mate = lines[at]
+    facts = {"in " + stand: True}
+    if caller:
+        facts["caller"] = True
+    if mate is not None:
+        facts["joined"] = True
+    if a is not None:
+        facts["a"] = True
+        if ears[a] == at:
+            facts["ear a"] = True
+    if b is not None:
+        facts["b"] = True
+        if ears[b] == at:
+            facts["ear b"] = True
+    return facts
+
+
+def holds(conditions, facts):
+    """Whether all these pairs of a condition without `not`, and whether it must hold, agree with the facts."""
+    for plain, wanted in conditions:
+        if (plain in facts) != wanted:
+            return False
+    return True
+
+
+def has_voice(standing, at):
+    """Whether a phone hears the line or its mate."""
+    lines, ears = standing
+    mate = lines[at][MATE]
+    return at in ears or (mate is not None and mate in ears)
+
+
+def has_stranger(standing, at):
+    """Whether the mate of the line has a caller."""
+    lines, ears = standing
+    mate = lines[at][MATE]
+    return mate is not None and lines[mate][CALLER]
+
+
+def line_shows(standing, at, conditions):
+    """Whether the line shows the picture with these conditions."""
+    lines, ears = standing
+    facts = line_facts(lines, ears, at)
+    if has_voice(standing, at):
+        facts["voice"] = True
+    if has_stranger(standing, at):
+        facts["stranger"] = True
+    return holds(conditions, facts)
+
+
+def heard_word(standing, at, sounds):
+    """What the caller of the line hears; None if there is no caller. `sounds` has the sound of each stand."""
+    line = standing[0][at]
+    if not line[CALLER]:
+        return None
+    voice, stranger = has_voice(standing, at), has_stranger(standing, at)
+    if voice and stranger:
+        return "both"
+    if voice:
+        return "voice"
+    return "stranger" if stranger else sounds[line[STAND]]
+
+
+def calls_away(ahead, behind, presser):
+    """Whether somebody else than the presser is called away, if one standing comes behind the other."""
+    lines_behind, ears_behind = behind
+    lines, ears = ahead
+    for phone, at in enumerate(ears):
+        if at is not None and phone != presser and ears_behind[phone] != at:
+            if lines[at][CALLER] and lines_behind[at][CALLER]:
+                return True
+    return False

@@ -2,23 +2,12 @@
 
 import unittest
 
-from examples import (HEARD_WORDS, OTHER_THINGS, PARTING_WORDS, ROW_WORDS, SAMPLE_KEYS, SAMPLE_ROWS, SAMPLE_STANDS,
-                      SAMPLE_TEXT, TWO_STANDS, bent, first_wrong_line)
+from examples import (HEARD_WORDS, JOINING_TEXT, OTHER_THINGS, PARTING_WORDS, ROW_WORDS, SAMPLE_KEYS, SAMPLE_ROWS,
+                      SAMPLE_STANDS, SAMPLE_TEXT, TWO_STANDS, bent, first_wrong_line)
 from holdhouse.errors import InvalidText, WrongLine
 from holdhouse.houses import House
 
 LINES = SAMPLE_TEXT.split("\n")
-
-JOINING_TEXT = """\
-lines 2, keys take join
-stand free quiet
-stand ring tone
-stand talk quiet
-call: a some, stand ring
-key take if in ring and me a: hear, stand talk
-key join if busy: join
-lay if in talk and not joined: stand free
-gone: stand free"""
 
 LARGEST_TEXT = "\n".join(["lines 3, keys a b c", *[f"stand {word} quiet" for word in "abcdef"],
                           *[f"key {key} if in {stand}: stand a" for key in "ab" for stand in "abcdef"],

@@ -43,14 +43,10 @@ def shape_of(standing):
     """The shape of a standing."""
     lines, ears = standing
     placed = placed_phones(lines)
-    numbered = [(stand, caller, number_of(a, placed), number_of(b, placed), mate)
+    numbers = {phone: number for number, phone in enumerate(placed)}
+    numbered = [(stand, caller, None if a is None else numbers[a], None if b is None else numbers[b], mate)
                 for stand, caller, a, b, mate in lines]
     return tuple(numbered), tuple([ears[phone] for phone in placed])
-
-
-def number_of(phone, placed):
-    """The number of what is at a place, if these phones are at places."""
-    return None if phone is None else placed.index(phone)
 
 
 def line_facts(lines, ears, at):

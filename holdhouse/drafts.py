@@ -2,15 +2,20 @@
 
 from holdhouse.standings import CALLER, MATE, PLACE_A, PLACE_B, STAND, loose_phones
 
+PLACES = {"a": PLACE_A, "b": PLACE_B}
+
 
 class Draft:
     """A standing, while an event changes it."""
 
     def __init__(self, standing, line, presser, picks):
         lines, ears = standing
-        self.records = [list(record) for record in lines]
-        self.hearers = list(ears)
         self.at = line
+        self.records = list(lines)
+        # The line of the event; of the other lines no more than the mate ever changes.
+        self.own = list(lines[line])
+        self.records[line] = self.own
+        self.hearers = list(ears)
         # The phone whose key or lay it is, or None.
         self.presser = presser
         # With None for the picks, the least loose phone comes each time.
@@ -18,7 +23,6 @@ class Draft:
         self.taken = []
         # The phones that could come where the picks name none of them.
         self.missed = []
-        self.done_row = None
 
 
 def frozen(draft):
@@ -26,32 +30,39 @@ def frozen(draft):
     return tuple([tuple(line) for line in draft.records]), tuple(draft.hearers)
 
 
+def deed_parts(text):
+    """The word of an action for the deed, and what the action needs to know besides."""
+    word, blank, rest = text.partition(" ")
+    return (rest, PLACES[word]) if word in PLACES else (word, rest)
+
+
 def set_stand(draft, word):
     """The stand is this word from now on."""
-    draft.records[draft.at][STAND] = word
+    draft.own[STAND] = word
 
 
-def fill_a(draft, who):
-    """Nobody, any phone or the presser comes to the place a."""
-    fill(draft, PLACE_A, PLACE_B, who)
+def empty_place(draft, place):
+    """The place is emptied."""
+    take_place(draft, place, None)
 
 
-def fill_b(draft, who):
-    """Nobody, any phone or the presser comes to the place b."""
-    fill(draft, PLACE_B, PLACE_A, who)
+def bring_some(draft, place):
+    """Any loose phone comes to the place."""
+    take_place(draft, place, coming_phone(draft))
 
 
-def fill(draft, place, other, who):
-    """Nobody, any phone or the presser comes to the place, and leaves the other one."""
-    phone = None
-    if who == "me":
-        phone = draft.presser
-    elif who == "some":
-        phone = coming_phone(draft)
-    line = draft.records[draft.at]
-    if line[other] == phone:
-        line[other] = None
-    line[place] = phone
+def bring_presser(draft, place):
+    """The presser comes to the place."""
+    take_place(draft, place, draft.presser)
+
+
+def take_place(draft, place, phone):
+    """The phone, or nobody, comes to the place, and leaves the other one."""
+    other = PLACE_B if place == PLACE_A else PLACE_A
+    if draft.own[other] == phone:
+        draft.own[other] = None
+    draft.own[place] = phone
+    drop_hearers(draft)
 
 
 def coming_phone(draft):
@@ -72,8 +83,7 @@ def coming_phone(draft):
 
 def swap_places(draft, rest):
     """The phones at the two places change places."""
-    line = draft.records[draft.at]
-    line[PLACE_A], line[PLACE_B] = line[PLACE_B], line[PLACE_A]
+    draft.own[PLACE_A], draft.own[PLACE_B] = draft.own[PLACE_B], draft.own[PLACE_A]
 
 
 def deafen_line(draft, rest):
@@ -83,16 +93,15 @@ def deafen_line(draft, rest):
 
 def part_mates(draft, rest):
     """The line and its mate are no mates any more."""
-    mate = draft.records[draft.at][MATE]
+    mate = draft.own[MATE]
     if mate is not None:
-        draft.records[draft.at][MATE] = None
-        draft.records[mate][MATE] = None
+        draft.own[MATE] = None
+        draft.records[mate] = (*draft.records[mate][:MATE], None)
 
 
 def let_hear(draft, rest):
     """The presser hears the line and no other one, if it is at a place of it."""
-    line = draft.records[draft.at]
-    if draft.presser in (line[PLACE_A], line[PLACE_B]):
+    if draft.presser in (draft.own[PLACE_A], draft.own[PLACE_B]):
         draft.hearers[draft.presser] = draft.at
 
 
@@ -101,18 +110,17 @@ def join_lines(draft, rest):
     other = draft.hearers[draft.presser]
     if other is None or other == draft.at:
         return
-    if draft.records[other][MATE] is None and draft.records[draft.at][MATE] is None:
-        draft.records[other][MATE] = draft.at
-        draft.records[draft.at][MATE] = other
+    if draft.records[other][MATE] is None and draft.own[MATE] is None:
+        draft.records[other] = (*draft.records[other][:MATE], draft.at)
+        draft.own[MATE] = other
 
 
 def clear_line(draft):
     """The line loses its caller, its phones and its mate."""
     part_mates(draft, "")
-    line = draft.records[draft.at]
-    line[CALLER] = False
-    line[PLACE_A] = None
-    line[PLACE_B] = None
+    draft.own[CALLER] = False
+    draft.own[PLACE_A] = None
+    draft.own[PLACE_B] = None
     drop_hearers(draft)
 
 
@@ -120,15 +128,15 @@ def drop_hearers(draft):
     """A phone that is at no place of the line does not hear it any more."""
     at = draft.at
     if at in draft.hearers:
-        line = draft.records[at]
-        here = (line[PLACE_A], line[PLACE_B])
+        here = (draft.own[PLACE_A], draft.own[PLACE_B])
         draft.hearers = [None if ear == at and phone not in here else ear for phone, ear in enumerate(draft.hearers)]
 
 
 ACTIONS = {
     "stand": set_stand,
-    "a": fill_a,
-    "b": fill_b,
+    "none": empty_place,
+    "some": bring_some,
+    "me": bring_presser,
     "swap": swap_places,
     "deaf": deafen_line,
     "part": part_mates,
@@ -142,6 +150,5 @@ def do_deeds(draft, deeds):
     for word, rest in deeds:
         action = ACTIONS[word]
         action(draft, rest)
-        drop_hearers(draft)
         if draft.missed:
             return

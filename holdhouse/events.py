@@ -5,11 +5,12 @@ An opening is an event without its PICKS.
 
 from holdhouse.checks import is_integer
 from holdhouse.drafts import Draft, clear_line, do_deeds, frozen
-from holdhouse.standings import CALLER, PLACE_A, PLACE_B, STAND, line_facts
+from holdhouse.facts import FACTS, line_facts, presser_facts
+from holdhouse.standings import CALLER, STAND
 
 
-def openings(plan, standing, phones):
-    """The openings of all events that can be made; those of keys and lays for the first so many phones alone."""
+def openings(plan, standing, phones, keys):
+    """The openings of all events that can be made, those of these keys, and of the first so many phones, alone."""
     lines, ears = standing
     found = []
     for at, line in enumerate(lines):
@@ -19,7 +20,7 @@ def openings(plan, standing, phones):
     for phone in range(phones):
         if ears[phone] is not None:
             found.append(("lay", phone))
-        for key in plan.of_house.key_words:
+        for key in keys:
             for at in range(len(lines)):
                 found.append(("key", key, phone, at))
     return found
@@ -44,17 +45,38 @@ def occasion_of(opening):
     return "key " + opening[1] if opening[0] == "key" else opening[0]
 
 
-def drafted(plan, standing, opening, picks):
-    """The draft behind an event; what it misses is empty if the picks were enough."""
+def row_at(plan, standing, opening):
+    """The row that does its deeds at the event, or None."""
+    at = line_of(opening, standing[1])
+    return row_with(plan, standing, opening, at, line_facts(standing, at, plan.stand_facts))
+
+
+def row_with(plan, standing, opening, at, facts):
+    """The row that does its deeds at the event; `facts` are those of its line ahead of the event."""
+    if opening[0] == "call":
+        facts = facts | FACTS["caller"]
+    elif opening[0] == "gone":
+        facts = facts ^ FACTS["caller"]
+    elif opening[0] == "key":
+        facts = facts | presser_facts(standing, at, opening[2])
+    elif opening[0] == "lay":
+        facts = facts_without_ear(facts | presser_facts(standing, at, opening[1]))
+    return plan.row_for(occasion_of(opening), facts)
+
+
+def facts_without_ear(facts):
+    """The facts when the phone that heard the line, and makes the event, does not hear it any more."""
+    return facts ^ (FACTS["ear a"] if facts & FACTS["me a"] else FACTS["ear b"])
+
+
+def drafted(plan, standing, opening, row, picks):
+    """The draft behind an event with this row, or none; what it misses is empty if the picks were enough."""
     draft = Draft(standing, line_of(opening, standing[1]), presser_of(opening), picks)
     come_or_go(draft, opening[0])
-    row = plan.row_for(occasion_of(opening), row_facts(draft))
     if row is not None:
-        index, conditions, deeds = row
-        draft.done_row = index
-        do_deeds(draft, deeds)
+        do_deeds(draft, row[2])
     # Only the line of the event can have come to its free stand, or got something there.
-    if draft.records[draft.at][STAND] == plan.free_stand:
+    if draft.own[STAND] == plan.free_stand:
         clear_line(draft)
     return draft
 
@@ -62,26 +84,11 @@ def drafted(plan, standing, opening, picks):
 def come_or_go(draft, kind):
     """What comes ahead of the rows: a caller comes or goes, or a phone hears nothing any more."""
     if kind == "call":
-        draft.records[draft.at][CALLER] = True
+        draft.own[CALLER] = True
     elif kind == "gone":
-        draft.records[draft.at][CALLER] = False
+        draft.own[CALLER] = False
     elif kind == "lay":
         draft.hearers[draft.presser] = None
-
-
-def row_facts(draft):
-    """The conditions that hold for the rows of the event."""
-    facts = line_facts(draft.records, draft.hearers, draft.at)
-    presser = draft.presser
-    if presser is not None:
-        line = draft.records[draft.at]
-        if line[PLACE_A] == presser:
-            facts["me a"] = True
-        if line[PLACE_B] == presser:
-            facts["me b"] = True
-        if draft.hearers[presser] is not None and draft.hearers[presser] != draft.at:
-            facts["busy"] = True
-    return facts
 
 
 def is_event_form(thing):
@@ -92,11 +99,16 @@ def is_event_form(thing):
             and all([is_integer(phone) for phone in thing[-1]]))
 
 
+def all_openings(plan, standing):
+    """The openings of all events that can be made."""
+    return openings(plan, standing, len(standing[1]), plan.of_house.key_words)
+
+
 def standing_behind(plan, standing, event):
     """The standing behind an event; None if it cannot be made."""
-    if not is_event_form(event) or event[:-1] not in openings(plan, standing, len(standing[1])):
+    if not is_event_form(event) or event[:-1] not in all_openings(plan, standing):
         return None
-    draft = drafted(plan, standing, event[:-1], event[-1])
+    draft = drafted(plan, standing, event[:-1], row_at(plan, standing, event[:-1]), event[-1])
     if draft.missed or tuple(draft.taken) != event[-1]:
         return None
     return frozen(draft)
@@ -104,11 +116,12 @@ def standing_behind(plan, standing, event):
 
 def events_with(plan, standing, opening):
     """All events with this opening that can be made."""
+    row = row_at(plan, standing, opening)
     found = []
     waiting = [()]
     while waiting:
         picks = waiting.pop()
-        missed = drafted(plan, standing, opening, picks).missed
+        missed = drafted(plan, standing, opening, row, picks).missed
         if not missed:
             found.append((*opening, picks))
         waiting.extend([(*picks, phone) for phone in missed])

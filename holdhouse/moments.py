@@ -3,10 +3,11 @@
 from holdhouse.arguments import check_house, check_line, check_phones, check_picture
 from holdhouse.checks import is_between
 from holdhouse.errors import InvalidEvent, InvalidWeaving
-from holdhouse.events import events_with, openings, standing_behind
+from holdhouse.events import all_openings, events_with, standing_behind
+from holdhouse.facts import holds, line_facts
 from holdhouse.limits import MOST_PHONES
-from holdhouse.plans import Plan, picture_conditions
-from holdhouse.standings import CALLER, MATE, PLACE_A, PLACE_B, STAND, heard_word, line_shows, shape_of
+from holdhouse.plans import Plan
+from holdhouse.standings import CALLER, MATE, PLACE_A, PLACE_B, STAND, shape_of
 
 LAST_WORDS = ("gone", "over")
 
@@ -61,18 +62,18 @@ class Moment:
     def heard(self, line):
         """What the caller of the line hears; None if there is no caller."""
         check_line(self.plan.of_house, line)
-        return heard_word(self.standing, line, self.plan.sounds)
+        return self.plan.heard_at(self.standing, line)
 
     def shows(self, line, picture):
         """Whether the line shows the picture."""
         check_line(self.plan.of_house, line)
         check_picture(self.plan.of_house, picture)
-        return line_shows(self.standing, line, picture_conditions(picture))
+        return holds(self.plan.picture_masks(picture), line_facts(self.standing, line, self.plan.stand_facts))
 
     def events(self):
         """The ascending tuple of all events that can be made."""
         found = []
-        for opening in openings(self.plan, self.standing, len(self.standing[1])):
+        for opening in all_openings(self.plan, self.standing):
             found.extend(events_with(self.plan, self.standing, opening))
         return tuple(sorted(found))
 
@@ -114,7 +115,7 @@ def hearing(house, weaving, line):
     check_line(house, line)
     words = ()
     for event, standing in zip(weaving[1], standings[1:]):
-        words = words_behind(words, event, heard_word(standing, line, plan.sounds), line)
+        words = words_behind(words, event, plan.heard_at(standing, line), line)
     return words
 
 

@@ -1,7 +1,9 @@
 """Plans: what a house does, taken apart so that events need not read its rows."""
 
-from holdhouse.checks import condition_parts, row_parts
-from holdhouse.standings import STAND, beginning, holds
+from holdhouse.checks import row_parts
+from holdhouse.drafts import deed_parts
+from holdhouse.facts import fact_masks, facts_of_stands, heard_word, holds, line_facts
+from holdhouse.standings import STAND, beginning
 
 
 class Plan:
@@ -11,11 +13,15 @@ class Plan:
         self.of_house = house
         self.free_stand = house.stands[0][0]
         self.sounds = {stand: sound for stand, sound in house.stands}
-        self.row_parts_at = rows_at_occasions(house.rows)
+        self.stand_facts = facts_of_stands(house.stands)
+        self.rows_at = rows_at_occasions(house.rows, self.stand_facts)
+        self.keys_with_rows = [key for key in house.key_words if "key " + key in self.rows_at]
+        # With so many phones all comes that comes with more of them, and without names nothing else.
+        self.most_phones = 2 * house.lines + 2
 
     def row_for(self, occasion, facts):
-        """The first row for this occasion all of whose conditions hold, as (index, conditions, deeds), or None."""
-        for row in self.row_parts_at.get(occasion, ()):
+        """The first row for this occasion all of whose conditions hold, as (index, masks, deeds), or None."""
+        for row in self.rows_at.get(occasion, ()):
             if holds(row[1], facts):
                 return row
         return None
@@ -28,23 +34,24 @@ class Plan:
         """Whether the line is at its free stand."""
         return standing[0][at][STAND] == self.free_stand
 
+    def facts_at(self, standing):
+        """The facts of each line."""
+        return [line_facts(standing, at, self.stand_facts) for at in range(len(standing[0]))]
 
-def rows_at_occasions(rows):
-    """For each occasion its rows in their order, as (index, conditions, deeds)."""
-    parts_at = {}
+    def heard_at(self, standing, at):
+        """What the caller of the line hears; None if there is no caller."""
+        return heard_word(line_facts(standing, at, self.stand_facts), self.sounds[standing[0][at][STAND]])
+
+    def picture_masks(self, picture):
+        """The facts that a line must have to show the picture, and those that it must not have."""
+        return fact_masks(picture.split(" and "), self.stand_facts)
+
+
+def rows_at_occasions(rows, stand_facts):
+    """For each occasion its rows in their order, as (index, masks, deeds)."""
+    found = {}
     for index, row in enumerate(rows):
         occasion, conditions, deeds = row_parts(row)
-        wanted = tuple([condition_parts(text) for text in conditions])
-        parts_at.setdefault(occasion, []).append((index, wanted, tuple([deed_parts(text) for text in deeds])))
-    return parts_at
-
-
-def picture_conditions(picture):
-    """The conditions of a picture, as pairs of a condition without `not`, and whether it must hold."""
-    return tuple([condition_parts(text) for text in picture.split(" and ")])
-
-
-def deed_parts(text):
-    """The first word of a deed, and what stands behind it."""
-    word, blank, rest = text.partition(" ")
-    return word, rest
+        masks = fact_masks(conditions, stand_facts)
+        found.setdefault(occasion, []).append((index, masks, tuple([deed_parts(text) for text in deeds])))
+    return found

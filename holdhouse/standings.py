@@ -43,37 +43,22 @@ def shape_of(standing):
     """The shape of a standing."""
     lines, ears = standing
     placed = placed_phones(lines)
+    if placed == list(range(len(placed))):
+        return tuple([tuple(line) for line in lines]), tuple(ears[:len(placed)])
     numbers = {phone: number for number, phone in enumerate(placed)}
     numbered = [(stand, caller, None if a is None else numbers[a], None if b is None else numbers[b], mate)
                 for stand, caller, a, b, mate in lines]
     return tuple(numbered), tuple([ears[phone] for phone in placed])
 
 
-def line_facts(lines, ears, at):
-    """A dict of the conditions on this line that hold; all its values are True."""
-    stand, caller, a, b, mate = lines[at]
-    facts = {"in " + stand: True}
-    if caller:
-        facts["caller"] = True
-    if mate is not None:
-        facts["joined"] = True
-    if a is not None:
-        facts["a"] = True
-        if ears[a] == at:
-            facts["ear a"] = True
-    if b is not None:
-        facts["b"] = True
-        if ears[b] == at:
-            facts["ear b"] = True
-    return facts
-
-
-def holds(conditions, facts):
-    """Whether all these pairs of a condition without `not`, and whether it must hold, agree with the facts."""
-    for plain, wanted in conditions:
-        if (plain in facts) != wanted:
-            return False
-    return True
+def in_order(shape, order):
+    """The shape with the lines of this one in another order."""
+    lines, ears = shape
+    moved = []
+    for line in order:
+        stand, caller, a, b, mate = lines[line]
+        moved.append((stand, caller, a, b, None if mate is None else order.index(mate)))
+    return shape_of((moved, [None if ear is None else order.index(ear) for ear in ears]))
 
 
 def has_voice(standing, at):
@@ -88,30 +73,6 @@ def has_stranger(standing, at):
     lines, ears = standing
     mate = lines[at][MATE]
     return mate is not None and lines[mate][CALLER]
-
-
-def line_shows(standing, at, conditions):
-    """Whether the line shows the picture with these conditions."""
-    lines, ears = standing
-    facts = line_facts(lines, ears, at)
-    if has_voice(standing, at):
-        facts["voice"] = True
-    if has_stranger(standing, at):
-        facts["stranger"] = True
-    return holds(conditions, facts)
-
-
-def heard_word(standing, at, sounds):
-    """What the caller of the line hears; None if there is no caller. `sounds` has the sound of each stand."""
-    line = standing[0][at]
-    if not line[CALLER]:
-        return None
-    voice, stranger = has_voice(standing, at), has_stranger(standing, at)
-    if voice and stranger:
-        return "both"
-    if voice:
-        return "voice"
-    return "stranger" if stranger else sounds[line[STAND]]
 
 
 def calls_away(ahead, behind, presser):

@@ -317,6 +317,13 @@ class Most(Case):
         self.assertEqual([most(house, "not in free and not b"), most(house, "a and b")], [3, 3])
         self.assertEqual(most(house, "a and not b"), 1)
 
+    def test_what_would_come_with_more_phones_behind_what_comes_with_few(self):
+        house = house_of(1, "free ring talk", "x", "call: a some, b some, stand ring",
+                         "key x if a and not b: b some, stand talk")
+        self.assertEqual([most(house, picture) for picture in ("in talk", "in talk and a", "in talk and b")], [1, 1, 0])
+        self.assertEqual(first(house, "in talk and b"), None)
+        self.assertEqual([len(shapes(house, phones)) for phones in (1, 2, 3)], [5, 3, 3])
+
     def test_joined_lines(self):
         house = house_of(3, "free talk", "x y", "call: stand talk", TALK, "key y: join")
         self.assertEqual(most(house, "joined"), 2)

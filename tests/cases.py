@@ -11,7 +11,7 @@ NO_INTEGERS = OTHER_THINGS + ("0", "1", "", (), (0,), (1,))
 
 
 class Case(unittest.TestCase):
-    def raises(self, kind, name, told, call, *values, **by_name):
+    def raises(self, kind, name, told, call, /, *values, **by_name):
         """The call raises just this error, which keeps just this (the very thing, if it is what was given)."""
         with self.assertRaises(kind) as caught:
             call(*values, **by_name)

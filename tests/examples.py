@@ -52,6 +52,21 @@ key join if busy: join
 lay if in talk and not joined: stand free
 gone: stand free"""
 
+# Two lines on which callers can be held, taken back by anybody, and joined.
+HOLDING_TEXT = """\
+lines 2, keys take hold join
+stand free quiet
+stand ring tone
+stand talk quiet
+stand held music
+call: a some, stand ring
+key take if in ring and me a: hear, stand talk
+key hold if in talk and me a: deaf, stand held
+key take if in held: a me, hear, stand talk
+key join if busy: join
+lay if in talk and not joined: stand free
+gone: stand free"""
+
 TWO_STANDS = (("free", "quiet"), ("talk", "tone"))
 
 # Words that rows are made of; all but and, if, not may be the names of stands and keys.

@@ -1,9 +1,13 @@
-"""The examples that stand in the document under samples, moments and questions."""
+"""The examples that stand in the document, from samples on."""
 
 import unittest
 
 from cases import Case
-from holdhouse.errors import InvalidStands, InvalidWeaving
+from holdhouse.books import Book
+from holdhouse.certificates import certify_can, certify_kept, certify_never
+from holdhouse.checker import accepts
+from holdhouse.errors import Broken, InvalidStands, InvalidWeaving
+from holdhouse.hearings import hears, parting_hearing
 from holdhouse.houses import House
 from holdhouse.moments import begin, hearing, play
 from holdhouse.questions import called_away, first, most, shapes, stuck, unused
@@ -63,6 +67,36 @@ class Document(Case):
         self.assertEqual([found[0], len(found[1]), most(joining_house(), "stranger")], [1, 5, 2])
         taken = called_away(sample_house().changed(3, "key take if not in free: a me, hear, stand talk"))
         self.assertEqual([taken[0], len(taken[1])], [2, 3])
+
+    def test_hearings(self):
+        self.assertEqual(
+            repr([hears(sample_house(), ("tone", "voice", "over")), hears(sample_house(), ("voice",)),
+                  hears(sample_house(), ())]),
+            repr([True, False, False]))
+        self.assertEqual(
+            repr([parting_hearing(lost_house(), sample_house()), parting_hearing(sample_house(), lost_house())]),
+            repr([None, ("tone", "voice", "music", "voice")]))
+
+    def test_books(self):
+        book = Book()
+        book["a"] = sample_house()
+        book.wish(("can", "a", "in held", "voice"))
+        self.assertEqual(repr([book.names, len(book.wishes), book.changes, "a" in book, len(book["a"])]),
+                         repr([("a",), 1, 2, True, 6]))
+        with self.assertRaises(Broken) as caught:
+            book.put("a", sample_house().without(3))
+        self.assertEqual(
+            vars(caught.exception),
+            {"index": 0, "shown": (1, (("call", 0, (0,)), ("key", "take", 0, 0, ()), ("key", "hold", 0, 0, ())))})
+
+    def test_certificates(self):
+        some = [certify_never(sample_house(), "voice and not caller"), certify_kept(sample_house()),
+                certify_can(lost_house(), "in held", "voice")]
+        self.assertEqual(
+            repr([some[0][0][0], some[1][0][0], some[2][0][0], accepts(some[0][0], some[0][1]),
+                  accepts(some[1][0], some[1][1]), accepts(some[2][0], some[2][1]), accepts(some[0][0], ())]),
+            repr(["never", "kept", "stuck", True, True, True, False]))
+        self.assertIs(accepts(("comes", str(sample_house()), "in ring"), (3, (("call", 0, (2,)),))), True)
 
 
 if __name__ == "__main__":

@@ -86,6 +86,20 @@ class Many(Case):
                          "key z: stand e", "late if in e: stand f")
         for phones in (1, 2, 20):
             self.assertEqual(len(shapes(house, phones)), 11 ** 3)
+        with mock.patch.object(walks, "MOST_SHAPES", 11 ** 3):
+            self.assertEqual(len(shapes(house, 8)), 11 ** 3)
+        with mock.patch.object(walks, "MOST_SHAPES", 11 ** 3 - 1):
+            self.raises(TooMany, "most", 11 ** 3 - 1, shapes, house, 8)
+
+    def test_houses_that_took_long(self):
+        house = house_of(2, "free ring talk", "ka kb", "call: a some, stand ring",
+                         "key ka if in ring: b me, hear, stand talk", "key kb: a me, join, hear",
+                         "late if in talk: a some, b some", "key ka if in talk: a me, hear, swap", "lay if a: b some",
+                         "gone if joined: deaf, stand ring")
+        self.too_many(house, (unused,), (called_away,), (shapes, 6), (shapes, 1))
+        house = house_of(3, "sa sb sc sd se sf", "", "call: a some, stand sb", "late if in sb: stand sc",
+                         "late if in sc: stand sd", "late if in sd: stand se", "late if in se: stand sf")
+        self.too_many(house, (shapes, 1), (first, "in sa"))
 
     def test_just_as_many_as_are_borne(self):
         with mock.patch.object(walks, "MOST_SHAPES", 4):
